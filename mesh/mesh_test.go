@@ -295,6 +295,32 @@ func TestNeighbours(t *testing.T) {
 	}
 }
 
+// TestThose is of the ones that are asked for, on which package walk leans.
+func TestThose(t *testing.T) {
+	l := strip(4)
+	m := made(t, l...)
+	for name, asked := range map[string]func(api.Tri) bool{
+		"all":  func(api.Tri) bool { return true },
+		"none": func(api.Tri) bool { return false },
+		"some": func(u api.Tri) bool { return (u.A.X+u.C.Y)%2 == 0 },
+		"one":  func(u api.Tri) bool { return u == l[5] },
+	} {
+		want := slices.DeleteFunc(lists(l).sorted(), func(u api.Tri) bool { return !asked(u) })
+		for range 3 {
+			got := m.Those(asked)
+			if !slices.Equal(got, want) {
+				t.Errorf("P5.1 Those, %s: %v, want %v", name, got, want)
+			}
+			clear(got[:cap(got)])
+		}
+		var no *Mesh
+		if got := append(no.Those(asked), new(Mesh).Those(asked)...); len(got) > 0 {
+			t.Errorf("P5.2 Those of no triangles, %s: %v", name, got)
+		}
+	}
+	same(t, "P5.3 after Those", m, l, square(5), nil)
+}
+
 func TestNil(t *testing.T) {
 	var m *Mesh
 	a := tr(0, 0, 4, 0, 4, 4)

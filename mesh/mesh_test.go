@@ -321,6 +321,18 @@ func TestThose(t *testing.T) {
 	same(t, "P5.3 after Those", m, l, square(5), nil)
 }
 
+// TestApex is of the corner across from each edge, named from either end, on which
+// package flip leans.
+func TestApex(t *testing.T) {
+	for _, u := range all(square(3)) {
+		for _, w := range ways(u) {
+			if got, back := Apex(u, w[0], w[1]), Apex(u, w[1], w[0]); got != w[2] || back != w[2] {
+				t.Errorf("P5.2 Apex(%v, %v, %v): %v, and %v the other way", u, w[0], w[1], got, back)
+			}
+		}
+	}
+}
+
 func TestNil(t *testing.T) {
 	var m *Mesh
 	a := tr(0, 0, 4, 0, 4, 4)

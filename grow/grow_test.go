@@ -99,24 +99,11 @@ func want(w, h, between int, ps []api.Point) []api.Tri {
 
 // fenced is the walls of a square, each cut at those of some points that are on it.
 func fenced(w, h, between int, ps []api.Point) []api.Wall {
-	var l []api.Wall
-	for _, v := range []api.Wall{wl(0, 0, 0, h, 2), wl(0, 0, w, 0, 2), wl(0, h, w, h, 2), wl(w, 0, w, h, 2), wl(0, 0, w, h, between)} {
-		if v.Kind == 0 {
-			continue
-		}
-		stops := []api.Point{v.A, v.B}
-		for _, p := range ps {
-			if exact.On(p, v.A, v.B) && p != v.A && p != v.B {
-				stops = append(stops, p)
-			}
-		}
-		slices.SortFunc(stops, exact.Cmp)
-		for i := range len(stops) - 1 {
-			l = append(l, api.Wall{A: stops[i], B: stops[i+1], Kind: v.Kind})
-		}
+	row := []api.Wall{wl(0, 0, 0, h, 2), wl(0, 0, w, 0, 2), wl(0, h, w, h, 2), wl(w, 0, w, h, 2)}
+	if between != 0 {
+		row = append(row, wl(0, 0, w, h, between))
 	}
-	slices.SortFunc(l, walls.Cmp)
-	return l
+	return cutAt(row, ps)
 }
 
 // TestOrder is that in whatever order points come, it is the mesh of all of them.

@@ -7,18 +7,17 @@ import (
 	"hectare/api"
 	"hectare/flip"
 	"hectare/grow"
-	"hectare/mesh"
-	"hectare/walls"
+	"hectare/plain"
 )
 
 // walled is what a wall that may be makes of a row.
 func walled(row []api.Wall, parts []api.Point, kind int) []api.Wall {
 	row = slices.Clone(row)
 	for i := range len(parts) - 1 {
-		e := between(parts[i], parts[i+1])
-		row = append(row, api.Wall{A: e.a, B: e.b, Kind: kind})
+		e := plain.Between(parts[i], parts[i+1])
+		row = append(row, api.Wall{A: e.A, B: e.B, Kind: kind})
 	}
-	slices.SortFunc(row, rising)
+	slices.SortFunc(row, plain.Rising)
 	return row
 }
 
@@ -27,12 +26,12 @@ func refusal(ps []api.Point, row []api.Wall, a, b api.Point) api.Errno {
 	if a == b {
 		return api.Malformed
 	}
-	parts := stops(ps, a, b)
+	parts := plain.Stops(ps, a, b)
 	if parts == nil {
 		return api.None
 	}
 	for i := range len(parts) - 1 {
-		if e := clash(row, parts[i], parts[i+1]); e != api.OK {
+		if e := plain.Clash(row, parts[i], parts[i+1]); e != api.OK {
 			return e
 		}
 	}
@@ -42,10 +41,10 @@ func refusal(ps []api.Point, row []api.Wall, a, b api.Point) api.Errno {
 // hold puts one wall into a mesh, and holds what comes of it against the plain reckoning.
 func hold(t *testing.T, l list, row []api.Wall, a, b api.Point, kind int) api.Errno {
 	t.Helper()
-	m, s, ps := made(t, l), fixed(t, row), l.points()
+	m, s, ps := made(t, l), fixed(t, row), l.Points()
 	want, tris, all := refusal(ps, row, a, b), list(m.Tris()), s.All()
 	if want == api.OK {
-		all = walled(row, stops(ps, a, b), kind)
+		all = walled(row, plain.Stops(ps, a, b), kind)
 		tris = only(t, ps, all)
 	}
 	if e := Wall(m, s, a, b, kind); e != want {
@@ -61,12 +60,12 @@ func hold(t *testing.T, l list, row []api.Wall, a, b api.Point, kind int) api.Er
 }
 
 // fenced is some walls that may be beside each other, between some points.
-func (d *dice) fenced(ps []api.Point, tries int) []api.Wall {
+func fenced(d *plain.Dice, ps []api.Point, tries int) []api.Wall {
 	var row []api.Wall
 	for range tries {
-		a, b := ps[d.below(len(ps))], ps[d.below(len(ps))]
+		a, b := ps[d.Below(len(ps))], ps[d.Below(len(ps))]
 		if refusal(ps, row, a, b) == api.OK {
-			row = walled(row, stops(ps, a, b), api.Inner+d.below(2))
+			row = walled(row, plain.Stops(ps, a, b), api.Inner+d.Below(2))
 		}
 	}
 	return row
@@ -75,13 +74,13 @@ func (d *dice) fenced(ps []api.Point, tries int) []api.Wall {
 // TestAll is of all ways between the points of small squares, whether these are corners
 // or not, with walls and without, in meshes that are cut well or not.
 func TestAll(t *testing.T) {
-	d := dice(10)
+	d := plain.Dice(10)
 	count := map[api.Errno]int{}
 	for i := range 45 {
-		w, h := 1+d.below(6), 1+d.below(6)
-		ps := d.points(w, h, d.below(13))
-		row := d.fenced(ps, i%3*3)
-		l := d.stirred(t, only(t, ps, row), row, i%4*30)
+		w, h := 1+d.Below(6), 1+d.Below(6)
+		ps := d.Points(w, h, d.Below(13))
+		row := fenced(&d, ps, i%3*3)
+		l := d.Stir(only(t, ps, row), row, i%4*30)
 		for x := range (w + 1) * (h + 1) {
 			for y := range (w + 1) * (h + 1) {
 				a, b := pt(x/(h+1), x%(h+1)), pt(y/(h+1), y%(h+1))
@@ -99,16 +98,16 @@ func TestAll(t *testing.T) {
 // TestClear is that just the edges that cross a way are flipped away, however the mesh is
 // cut: on the way to it no other one goes.
 func TestClear(t *testing.T) {
-	d := dice(1010)
+	d := plain.Dice(1010)
 	count := map[string]int{}
 	try := func(l list, a, b api.Point) {
 		m := made(t, l)
 		way{a, b}.clear(m)
 		now := list(m.Tris())
-		then, e := now.edges(), between(a, b)
+		then, e := now.Edges(), plain.Between(a, b)
 		crossed := 0
-		for f := range l.edges() {
-			if f != e && meet(e, f) {
+		for f := range l.Edges() {
+			if f != e && plain.Meet(e, f) {
 				crossed++
 			} else if then[f] == 0 {
 				t.Fatalf("P10.1 clear from %v to %v of %v: %v went", a, b, l, f)
@@ -117,7 +116,7 @@ func TestClear(t *testing.T) {
 		if then[e] == 0 {
 			t.Fatalf("P10.2 clear from %v to %v of %v: no edge: %v", a, b, l, now)
 		}
-		if now.area() != l.area() || len(now) != len(l) || !slices.Equal(now.points(), l.points()) {
+		if now.Area() != l.Area() || len(now) != len(l) || !slices.Equal(now.Points(), l.Points()) {
 			t.Fatalf("P10.2 clear from %v to %v of %v: covers less, or more: %v", a, b, l, now)
 		}
 		count["tries"]++
@@ -127,15 +126,15 @@ func TestClear(t *testing.T) {
 		}
 	}
 	for i := range 80 {
-		w, h := 5+d.below(9), 5+d.below(9)
+		w, h := 5+d.Below(9), 5+d.Below(9)
 		if i%4 == 0 {
-			w, h = far-d.below(2), far-d.below(2)
+			w, h = plain.Far-d.Below(2), plain.Far-d.Below(2)
 		}
-		ps := d.points(w, h, 10+d.below(30))
-		l := d.stirred(t, only(t, ps, nil), nil, 20+d.below(400))
+		ps := d.Points(w, h, 10+d.Below(30))
+		l := d.Stir(only(t, ps, nil), nil, 20+d.Below(400))
 		for range 40 {
-			a, b := ps[d.below(len(ps))], ps[d.below(len(ps))]
-			if a != b && len(stops(ps, a, b)) == 2 {
+			a, b := ps[d.Below(len(ps))], ps[d.Below(len(ps))]
+			if a != b && len(plain.Stops(ps, a, b)) == 2 {
 				try(l, a, b)
 			}
 		}
@@ -154,10 +153,10 @@ func TestTurns(t *testing.T) {
 			up, down := 11+x%2*5, 9-x%3*3
 			ps = append(ps, pt(x, up), pt(x, down))
 		}
-		slices.SortFunc(ps, order)
-		d := dice(n)
+		slices.SortFunc(ps, plain.Order)
+		d := plain.Dice(n)
 		for range 6 {
-			l := d.stirred(t, only(t, ps, nil), nil, 60*n)
+			l := d.Stir(only(t, ps, nil), nil, 60*n)
 			hold(t, l, nil, pt(0, 10), pt(2*n+2, 10), api.Inner)
 			hold(t, l, nil, pt(2*n+2, 10), pt(0, 10), api.Border)
 			hold(t, l, nil, pt(0, 0), pt(2*n+2, 10), api.Inner)
@@ -169,17 +168,17 @@ func TestTurns(t *testing.T) {
 // TestOrder is that in whatever order walls come, and in whichever direction each, it is
 // the mesh of all of them.
 func TestOrder(t *testing.T) {
-	d := dice(101010)
+	d := plain.Dice(101010)
 	count := 0
 	for range 60 {
-		w, h := 2+d.below(8), 2+d.below(8)
-		ps := d.points(w, h, d.below(16))
-		row := d.fenced(ps, 10)
+		w, h := 2+d.Below(8), 2+d.Below(8)
+		ps := d.Points(w, h, d.Below(16))
+		row := fenced(&d, ps, 10)
 		want := only(t, ps, row)
 		count += len(row)
 		for range 4 {
-			m, s := made(t, d.stirred(t, only(t, ps, nil), nil, 20)), fixed(t, nil)
-			for i, v := range mix(&d, row) {
+			m, s := made(t, d.Stir(only(t, ps, nil), nil, 20)), fixed(t, nil)
+			for i, v := range plain.Mix(&d, row) {
 				a, b := v.A, v.B
 				if i%2 == 0 {
 					a, b = b, a
@@ -206,11 +205,11 @@ func TestOrder(t *testing.T) {
 // TestLate is that it is the same, whether points come ahead of walls or after them, also
 // those that walls go over.
 func TestLate(t *testing.T) {
-	d := dice(11)
+	d := plain.Dice(11)
 	over := 0
 	for range 60 {
-		w, h := 2+d.below(8), 2+d.below(8)
-		ps := d.points(w, h, 12)
+		w, h := 2+d.Below(8), 2+d.Below(8)
+		ps := d.Points(w, h, 12)
 		type long struct {
 			a, b api.Point
 			kind int
@@ -218,32 +217,32 @@ func TestLate(t *testing.T) {
 		// None crosses another one between two ends, whichever points are there.
 		var ways []long
 		crossed := func(a, b api.Point) bool {
-			return slices.ContainsFunc(ways, func(v long) bool { return apart(a, b, v.a, v.b) && apart(v.a, v.b, a, b) })
+			return slices.ContainsFunc(ways, func(v long) bool { return plain.Apart(a, b, v.a, v.b) && plain.Apart(v.a, v.b, a, b) })
 		}
 		var row []api.Wall
 		for range 10 {
-			a, b, kind := ps[d.below(len(ps))], ps[d.below(len(ps))], api.Inner+d.below(2)
+			a, b, kind := ps[d.Below(len(ps))], ps[d.Below(len(ps))], api.Inner+d.Below(2)
 			if !crossed(a, b) && refusal(ps, row, a, b) == api.OK {
-				row = walled(row, stops(ps, a, b), kind)
+				row = walled(row, plain.Stops(ps, a, b), kind)
 				ways = append(ways, long{a, b, kind})
 			}
 		}
 		over += len(row) - len(ways)
 		// First all ends of walls, then the walls, then the others.
-		ends := d.points(w, h, 0)
+		ends := d.Points(w, h, 0)
 		for _, v := range ways {
 			ends = append(ends, v.a, v.b)
 		}
 		m, s := made(t, list{tr(0, 0, w, 0, w, h), tr(0, 0, w, h, 0, h)}), fixed(t, nil)
-		for _, p := range mix(&d, ends) {
+		for _, p := range plain.Mix(&d, ends) {
 			grow.Point(m, s, p)
 		}
-		for _, v := range mix(&d, ways) {
+		for _, v := range plain.Mix(&d, ways) {
 			if e := Wall(m, s, v.a, v.b, v.kind); e != api.OK {
 				t.Fatalf("P10.2 Wall(%v) of %v beside %v: %d", v, m.Points(), s.All(), e)
 			}
 		}
-		for _, p := range mix(&d, ps) {
+		for _, p := range plain.Mix(&d, ps) {
 			grow.Point(m, s, p)
 		}
 		if want := only(t, ps, row); !slices.Equal(m.Tris(), want) || !slices.Equal(s.All(), row) {
@@ -258,28 +257,16 @@ func TestLate(t *testing.T) {
 // TestHeaps is that the calls end for meshes of whatever triangles, and walls wherever,
 // that they tell the same twice, and that an error changes nothing.
 func TestHeaps(t *testing.T) {
-	d := dice(1111)
+	d := plain.Dice(1111)
 	count := map[api.Errno]int{}
-	for range 1500 {
-		var l list
-		for range 40 {
-			u, ok := told(pt(d.below(6), d.below(6)), pt(d.below(6), d.below(6)), pt(d.below(6), d.below(6)))
-			if _, e := mesh.New(append(l[:len(l):len(l)], u)); ok && e == api.OK {
-				l = append(l, u)
-			}
-		}
-		var row []api.Wall
-		for range d.below(4) {
-			v, ok := walls.Make(pt(d.below(6), d.below(6)), pt(d.below(6), d.below(6)), api.Inner+d.below(2))
-			if _, e := walls.New(append(row[:len(row):len(row)], v)); ok && e == api.OK {
-				row = append(row, v)
-			}
-		}
-		a, b := pt(d.below(6), d.below(6)), pt(d.below(6), d.below(6))
+	for range 6000 {
+		l := d.Heap(nil, 5, 5, 40)
+		row := d.Walls(nil, 5, 5, d.Below(4))
+		a, b := d.Point(5, 5), d.Point(5, 5)
 		m, s := made(t, l), fixed(t, row)
 		tris, all := m.Tris(), s.All()
 		parts, f := Parts(m, a, b)
-		if a != b && !slices.Equal(parts, stops(l.points(), a, b)) || (f == api.OK) != (len(parts) > 0) {
+		if a != b && !slices.Equal(parts, plain.Stops(l.Points(), a, b)) || (f == api.OK) != (len(parts) > 0) {
 			t.Fatalf("P10.1 Parts from %v to %v of %v: %v, %d", a, b, l, parts, f)
 		}
 		e := Wall(m, s, a, b, api.Inner)
@@ -301,13 +288,13 @@ func TestHeaps(t *testing.T) {
 // TestMany is of a great mesh, and walls from one end of it to the other.
 func TestMany(t *testing.T) {
 	const n, step = 100, 1000
-	d := dice(111)
+	d := plain.Dice(111)
 	var at [n + 1][n + 1]api.Point
 	for x := range n + 1 {
 		for y := range n + 1 {
 			at[x][y] = pt(x*step, y*step)
 			if x > 0 && x < n && y > 0 && y < n {
-				at[x][y] = pt(x*step+d.below(400), y*step+d.below(400))
+				at[x][y] = pt(x*step+d.Below(400), y*step+d.Below(400))
 			}
 		}
 	}
@@ -315,19 +302,19 @@ func TestMany(t *testing.T) {
 	for x := range n {
 		for y := range n {
 			for _, c := range [][3]api.Point{{at[x][y], at[x+1][y], at[x+1][y+1]}, {at[x][y], at[x+1][y+1], at[x][y+1]}} {
-				u, _ := told(c[0], c[1], c[2])
+				u, _ := plain.Told(c[0], c[1], c[2])
 				l = append(l, u)
 			}
 		}
 	}
 	m, s := made(t, l), fixed(t, nil)
 	want := 0
-	for _, v := range []line{
+	for _, v := range [][2]api.Point{
 		{at[0][0], at[n][n]}, {at[0][n], at[3][n-3]}, {at[n][0], at[n/2+3][n/2-9]}, {at[0][1], at[n][n-1]}, {at[0][n], at[n][n]},
 	} {
-		parts, _ := Parts(m, v.a, v.b)
-		e := refusal(m.Points(), s.All(), v.a, v.b)
-		if got := Wall(m, s, v.a, v.b, api.Border); got != e {
+		parts, _ := Parts(m, v[0], v[1])
+		e := refusal(m.Points(), s.All(), v[0], v[1])
+		if got := Wall(m, s, v[0], v[1], api.Border); got != e {
 			t.Errorf("P10.1 Wall(%v) of many: %d, want %d", v, got, e)
 		}
 		if e == api.OK {
@@ -335,13 +322,13 @@ func TestMany(t *testing.T) {
 		}
 	}
 	now := list(m.Tris())
-	es := now.edges()
+	es := now.Edges()
 	for _, v := range s.All() {
-		if es[line{v.A, v.B}] == 0 {
+		if es[plain.Between(v.A, v.B)] == 0 {
 			t.Errorf("P10.1 of many: %v is no edge", v)
 		}
 	}
-	if want < n+2 || s.Len() != want || !flip.Good(m, s) || now.area() != l.area() || len(now) != len(l) || len(es) != len(l.edges()) {
+	if want < n+2 || s.Len() != want || !flip.Good(m, s) || now.Area() != l.Area() || len(now) != len(l) || len(es) != len(l.Edges()) {
 		t.Errorf("P10.2 of many: %d walls, want %d; %d triangles", s.Len(), want, len(now))
 	}
 }

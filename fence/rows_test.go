@@ -7,16 +7,9 @@ import (
 
 	"hectare/api"
 	"hectare/mesh"
+	"hectare/plain"
 	"hectare/walls"
 )
-
-// strangers is points that are not Valid.
-func strangers() []api.Point {
-	return []api.Point{
-		pt(-1, 2), pt(2, -1), pt(far+1, 2), pt(2, far+1), pt(-1, -1), pt(far+1, far+1),
-		pt(math.MinInt, 2), pt(2, math.MinInt), pt(math.MaxInt, math.MaxInt), pt(2+1<<32, 2),
-	}
-}
 
 // middle is a square of four, about its middle.
 func middle() list {
@@ -24,7 +17,7 @@ func middle() list {
 }
 
 func TestPartsRows(t *testing.T) {
-	ends := list{tr(0, 0, far, 0, far, far), tr(0, 0, far, far, 0, far)}
+	ends := list{tr(0, 0, plain.Far, 0, plain.Far, plain.Far), tr(0, 0, plain.Far, plain.Far, 0, plain.Far)}
 	steps := list{tr(0, 0, 2, 0, 2, 1), tr(2, 1, 6, 0, 6, 3), tr(3, 7, 4, 2, 5, 5)}
 	type ps = []api.Point
 	rows := []struct {
@@ -40,8 +33,8 @@ func TestPartsRows(t *testing.T) {
 		{"over a corner, downward", middle(), pt(0, 4), pt(4, 0), ps{pt(0, 4), pt(2, 2), pt(4, 0)}, api.OK},
 		{"over a corner, upward and back", middle(), pt(4, 0), pt(0, 4), ps{pt(4, 0), pt(2, 2), pt(0, 4)}, api.OK},
 		{"along a rim", middle(), pt(4, 4), pt(4, 0), ps{pt(4, 4), pt(4, 0)}, api.OK},
-		{"no edge", ends, pt(0, far), pt(far, 0), ps{pt(0, far), pt(far, 0)}, api.OK},
-		{"from the grid's end to its other end", ends, pt(far, far), pt(0, 0), ps{pt(far, far), pt(0, 0)}, api.OK},
+		{"no edge", ends, pt(0, plain.Far), pt(plain.Far, 0), ps{pt(0, plain.Far), pt(plain.Far, 0)}, api.OK},
+		{"from the grid's end to its other end", ends, pt(plain.Far, plain.Far), pt(0, 0), ps{pt(plain.Far, plain.Far), pt(0, 0)}, api.OK},
 		{"of triangles that stand apart", steps, pt(0, 0), pt(6, 3), ps{pt(0, 0), pt(2, 1), pt(4, 2), pt(6, 3)}, api.OK},
 		{"not those beyond its ends", steps, pt(4, 2), pt(2, 1), ps{pt(4, 2), pt(2, 1)}, api.OK},
 		{"straight up", steps, pt(2, 1), pt(2, 0), ps{pt(2, 1), pt(2, 0)}, api.OK},
@@ -64,8 +57,8 @@ func TestPartsRows(t *testing.T) {
 		}
 	}
 	m := made(t, middle())
-	for _, p := range strangers() {
-		for _, q := range append(strangers(), pt(0, 0), pt(1, 1)) {
+	for _, p := range plain.Strangers() {
+		for _, q := range append(plain.Strangers(), pt(0, 0), pt(1, 1)) {
 			for _, x := range []*mesh.Mesh{m, nil, {}} {
 				if got, e := Parts(x, p, q); e != api.Malformed || len(got) > 0 {
 					t.Errorf("P10.1 Parts(%v, %v): %v, %d", p, q, got, e)
@@ -107,8 +100,8 @@ func TestWallRows(t *testing.T) {
 		{"the other way across, back", wide, nil, pt(4, 0), pt(0, 4), 2, ws{wl(0, 4, 4, 0, 2)}, across},
 		{"one that is cut wrong is cut right", across, nil, pt(0, 0), pt(0, 4), 1, ws{wl(0, 0, 0, 4, 1)}, wide},
 		{"beside one that ends there", middle(), ws{wl(0, 0, 2, 2, 2)}, pt(2, 2), pt(4, 4), 1, ws{wl(0, 0, 2, 2, 2), wl(2, 2, 4, 4, 1)}, middle()},
-		{"all of the grid", list{tr(0, 0, far, 0, far, far), tr(0, 0, far, far, 0, far)}, nil, pt(0, far), pt(far, 0), 1,
-			ws{wl(0, far, far, 0, 1)}, list{tr(0, 0, far, 0, 0, far), tr(0, far, far, 0, far, far)}},
+		{"all of the grid", list{tr(0, 0, plain.Far, 0, plain.Far, plain.Far), tr(0, 0, plain.Far, plain.Far, 0, plain.Far)}, nil, pt(0, plain.Far), pt(plain.Far, 0), 1,
+			ws{wl(0, plain.Far, plain.Far, 0, 1)}, list{tr(0, 0, plain.Far, 0, 0, plain.Far), tr(0, plain.Far, plain.Far, 0, plain.Far, plain.Far)}},
 		// From end to end, with a point close by: first the one edge across, then the other one.
 		{"past a point", list{tr(0, 0, 6, 3, 0, 6), tr(0, 0, 12, 0, 6, 3), tr(0, 6, 6, 3, 12, 6), tr(6, 3, 12, 0, 12, 6)}, nil, pt(0, 0), pt(12, 6), 1,
 			ws{wl(0, 0, 6, 3, 1), wl(6, 3, 12, 6, 1)}, list{tr(0, 0, 6, 3, 0, 6), tr(0, 0, 12, 0, 6, 3), tr(0, 6, 6, 3, 12, 6), tr(6, 3, 12, 0, 12, 6)}},
@@ -137,7 +130,7 @@ func TestWallRows(t *testing.T) {
 func TestErrors(t *testing.T) {
 	m, s := made(t, middle()), fixed(t, []api.Wall{wl(0, 0, 2, 2, 2), wl(0, 0, 4, 0, 1)})
 	tris, row := m.Tris(), s.All()
-	stray := strangers()[0]
+	stray := plain.Strangers()[0]
 	rows := []struct {
 		what string
 		m    *mesh.Mesh
@@ -181,7 +174,7 @@ func TestErrors(t *testing.T) {
 			t.Fatalf("P10.1 Wall, %s, changes it: %v, %v", r.what, m.Tris(), s.All())
 		}
 	}
-	for _, p := range strangers() {
+	for _, p := range plain.Strangers() {
 		for _, q := range []api.Point{pt(2, 2), p, pt(1, 1)} {
 			if e, f := Wall(m, s, p, q, 1), Wall(m, s, q, p, 2); e != api.Malformed || f != api.Malformed {
 				t.Errorf("P10.1 Wall between %v and %v: %d, %d", p, q, e, f)
@@ -194,10 +187,10 @@ func TestErrors(t *testing.T) {
 // that nothing changes by it, though parts ahead of it could be.
 func TestFirst(t *testing.T) {
 	ps := []api.Point{pt(0, 0), pt(0, 6), pt(12, 0), pt(12, 6), pt(0, 3), pt(2, 3), pt(4, 3), pt(6, 3), pt(8, 3), pt(12, 3), pt(5, 1), pt(5, 5), pt(10, 2), pt(11, 5)}
-	slices.SortFunc(ps, order)
+	slices.SortFunc(ps, plain.Order)
 	row := []api.Wall{wl(5, 1, 5, 5, 2), wl(6, 3, 8, 3, 1)}
-	d := dice(12)
-	l := d.stirred(t, only(t, ps, row), row, 60)
+	d := plain.Dice(12)
+	l := d.Stir(only(t, ps, row), row, 60)
 	rows := []struct {
 		what string
 		a, b api.Point

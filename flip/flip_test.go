@@ -240,6 +240,52 @@ func TestHeaps(t *testing.T) {
 	}
 }
 
+// TestMend is that where some triangles alone are cut badly, and what is around them is not,
+// Mend of these is Repair; and that it looks for bad edges at none but those it is told.
+func TestMend(t *testing.T) {
+	d := dice(88888)
+	changed, left := 0, 0
+	for i := range 300 {
+		w, h := 4+d.below(9), 4+d.below(9)
+		l := square(w, h, d.points(w, h, 20)...)
+		s := d.chosen(l, 2+i%9)
+		m, set := made(t, l), fixed(t, s)
+		if e := Repair(m, set); e != api.OK {
+			t.Fatalf("P8.2 Repair: %d", e)
+		}
+		want := list(m.Tris())
+		for range 1 + i%3 {
+			es := list(m.Tris()).edges()
+			if e := es[d.below(len(es))]; !stays(s, e[0], e[1]) {
+				m.Flip(e[0], e[1])
+			}
+		}
+		poor := list(m.Tris())
+		var in list
+		for _, u := range poor {
+			if !slices.Contains(want, u) {
+				in = append(in, u)
+			}
+		}
+		if e := Mend(m, set, nil); e != api.OK || !slices.Equal(m.Tris(), poor) {
+			t.Fatalf("P8.2 Mend of no triangles: %d, %v, want %v", e, m.Tris(), poor)
+		}
+		if e := Mend(m, set, in); e != api.OK || !slices.Equal(m.Tris(), want) {
+			t.Fatalf("P8.2 Mend of %v with %v, at %v: %d, %v, want %v", poor, s, in, e, m.Tris(), want)
+		}
+		changed += len(in)
+		left += len(s)
+	}
+	if changed < 300 || left < 300 {
+		t.Errorf("%d triangles changed, %d walls", changed, left)
+	}
+	stuck := list{tr(0, 0, 4, 0, 0, 4), tr(0, 4, 4, 0, 4, 4), tr(0, 0, 9, 1, 4, 4)}
+	m := made(t, stuck)
+	if e := Mend(m, fixed(t, nil), append(stuck, tr(7, 7, 9, 7, 9, 9), api.Tri{})); e != api.OK || m.Len() != 3 {
+		t.Errorf("P8.2 Mend of one that can't be flipped, and of others: %d, %v", e, m.Tris())
+	}
+}
+
 // TestLeft is of a bad edge that can't be flipped: it is left, and others are not.
 func TestLeft(t *testing.T) {
 	stuck := list{tr(0, 0, 4, 0, 0, 4), tr(0, 4, 4, 0, 4, 4), tr(0, 0, 9, 1, 4, 4)}

@@ -147,6 +147,9 @@ func TestNil(t *testing.T) {
 			t.Errorf("P8.2 Repair, %s: %d", what, e)
 		}
 	}
+	if e, f := Mend(nil, s, wrong), Mend(m, nil, wrong); e != api.None || f != api.None {
+		t.Errorf("P8.2 Mend of a nil mesh, or Set: %d, %d", e, f)
+	}
 	if !slices.Equal(m.Tris(), made(t, wrong).Tris()) || s.Len() != 1 {
 		t.Errorf("P8.2 Repair told None, and changed %v, %v", m.Tris(), s.All())
 	}

@@ -333,6 +333,30 @@ func TestApex(t *testing.T) {
 	}
 }
 
+// TestCopy is that a Copy is the same, and that the two have nothing in common.
+func TestCopy(t *testing.T) {
+	a, b := tr(0, 0, 4, 0, 4, 4), tr(0, 0, 4, 4, 0, 4)
+	some := append(bad(), a, b, tr(0, 0, 4, 0, 0, 4))
+	m := made(t, a, b)
+	n := m.Copy()
+	same(t, "P5.1 a Copy", n, []api.Tri{a, b}, square(5), some)
+	if e := n.Flip(pt(0, 0), pt(4, 4)); e != api.OK {
+		t.Errorf("P5.2 Flip of a Copy: %d", e)
+	}
+	same(t, "P5.3 what a Copy was made of", m, []api.Tri{a, b}, square(5), some)
+	if e := m.Replace([]api.Tri{a}, nil); e != api.OK || n.Len() != 2 || n.Has(a) {
+		t.Errorf("P5.3 a Copy changes with what it was made of: %d, %v", e, n.Tris())
+	}
+	var none *Mesh
+	if none.Copy() != nil {
+		t.Errorf("P5.2 a Copy of a nil Mesh")
+	}
+	zero := (&Mesh{}).Copy()
+	if e := zero.Replace(nil, []api.Tri{a}); e != api.OK || zero.Len() != 1 {
+		t.Errorf("P5.2 Replace of the Copy of a zero Mesh: %d", e)
+	}
+}
+
 func TestNil(t *testing.T) {
 	var m *Mesh
 	a := tr(0, 0, 4, 0, 4, 4)

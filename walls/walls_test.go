@@ -240,6 +240,58 @@ func TestNone(t *testing.T) {
 	}
 }
 
+// TestCopy is that a Copy is the same, and that the two have nothing in common.
+func TestCopy(t *testing.T) {
+	l := list{in(0, 0, 4, 4), wl(0, 4, 1, 2, 2)}
+	near := points(0, 1, 2, 4)
+	s := made(t, l)
+	c := s.Copy()
+	hold(t, "a Copy", c, l, near)
+	if e, f := c.Remove(pt(0, 0), pt(4, 4)), c.Add(in(0, 0, 1, 1)); e != api.OK || f != api.OK {
+		t.Errorf("P7.2 Remove, Add of a Copy: %d, %d", e, f)
+	}
+	hold(t, "what a Copy was made of", s, l, near)
+	hold(t, "a Copy, changed", c, list{in(0, 0, 1, 1), l[1]}, near)
+	if e := s.Add(in(2, 1, 4, 1)); e != api.OK {
+		t.Errorf("P7.2 Add: %d", e)
+	}
+	hold(t, "a Copy of what has changed", c, list{in(0, 0, 1, 1), l[1]}, near)
+	var none *Set
+	if none.Copy() != nil {
+		t.Errorf("P7.2 a Copy of a nil Set")
+	}
+	hold(t, "a Copy of nothing", (&Set{}).Copy(), nil, near)
+}
+
+// TestExchange is that walls come in the place of others, and that all others stay.
+func TestExchange(t *testing.T) {
+	near := points(0, 1, 2, 4)
+	stay := list{in(0, 4, 4, 4), wl(4, 0, 4, 2, 2)}
+	for i, x := range []struct{ out, in list }{
+		{nil, nil},
+		{list{in(0, 0, 2, 2)}, list{in(0, 0, 1, 1), in(1, 1, 2, 2)}},
+		{list{wl(0, 0, 1, 1, 2), wl(1, 1, 2, 2, 2)}, list{wl(0, 0, 2, 2, 2)}},
+		{list{in(0, 0, 2, 2)}, list{wl(0, 0, 2, 2, 2)}},
+		{list{in(0, 0, 2, 2), in(0, 1, 1, 2)}, list{in(0, 1, 1, 2), in(0, 2, 1, 4)}},
+		{list{in(0, 0, 2, 2)}, nil},
+		{nil, list{in(0, 0, 2, 2), in(0, 1, 1, 2)}},
+		{list{in(0, 0, 2, 2)}, list{in(0, 0, 2, 2)}},
+	} {
+		s := made(t, append(slices.Clone(stay), x.out...))
+		out, in := slices.Clone(x.out), slices.Clone(x.in)
+		s.Exchange(out, in)
+		hold(t, "Exchange", s, append(slices.Clone(stay), x.in...), near)
+		if !slices.Equal(out, x.out) || !slices.Equal(in, x.in) {
+			t.Errorf("P7.3 %d: Exchange changes what is handed in: %v, %v", i, out, in)
+		}
+	}
+	var none *Set
+	none.Exchange(stay, stay)
+	if none.Len() != 0 {
+		t.Errorf("P7.2 Exchange of a nil Set")
+	}
+}
+
 // TestKept is that what is handed in is neither changed nor kept, that answers are new
 // memory, and that Sets have nothing in common.
 func TestKept(t *testing.T) {
